@@ -1,0 +1,1 @@
+"""Galleymarks: marks of correctors on a galley, and which of them quarrel."""
