@@ -1,1 +1,1 @@
-"""Galleymarks: marks of correctors on a galley, and which of them quarrel."""
+"""Galleymarks: marks of correctors on a galley, which of them quarrel, and the text that they mend."""

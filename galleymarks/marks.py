@@ -1,7 +1,7 @@
 """The four kinds of marks on a galley."""
 
-from galleymarks.errors import BadGalley, BadMark
-from galleymarks.signs import is_galley, is_number, is_text
+from galleymarks.errors import BadMark
+from galleymarks.signs import check_galley, is_number, is_text
 
 MOST_IN_PUT = 20
 
@@ -148,8 +148,7 @@ def are_rising(values):
 
 def reaches_no_more(greatest, galley):
     """Whether the greatest of a mark's numbers is a gap of the galley."""
-    if not is_galley(galley):
-        raise BadGalley("a galley is a text of at most 80 signs")
+    check_galley(galley)
     return greatest <= len(galley)
 
 

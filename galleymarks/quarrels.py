@@ -1,6 +1,6 @@
 """The marks that quarrel, pair by pair."""
 
-from galleymarks.errors import BadMarks
+from galleymarks.errors import BadMarks, Quarrel
 from galleymarks.marks import About, Carry, Strike, is_mark
 
 MOST_MARKS = 30
@@ -9,12 +9,7 @@ MOST_MARKS = 30
 def quarrels(marks):
     """All pairs of counts of marks that quarrel, the lesser count first, in order."""
     check_marks(marks)
-    return [
-        (one, other)
-        for one in range(len(marks))
-        for other in range(one + 1, len(marks))
-        if are_at_odds(marks[one], marks[other])
-    ]
+    return pairs_at_odds(marks)
 
 
 def check_marks(marks):
@@ -23,6 +18,23 @@ def check_marks(marks):
         raise BadMarks("the marks are a list of at most 30")
     if not all([is_mark(mark) for mark in marks]):
         raise BadMarks("something in the list is no mark")
+
+
+def pairs_at_odds(marks):
+    """The pairs of counts that quarrel, of marks however many."""
+    return [
+        (one, other)
+        for one in range(len(marks))
+        for other in range(one + 1, len(marks))
+        if are_at_odds(marks[one], marks[other])
+    ]
+
+
+def refuse_first(pairs):
+    """Refuse marks by the first of the pairs that quarrel, if there is one."""
+    if pairs:
+        one, other = pairs[0]
+        raise Quarrel(one, other)
 
 
 def are_at_odds(one, other):

@@ -1,5 +1,7 @@
 """What is a number, a text of signs and a galley."""
 
+from galleymarks.errors import BadGalley
+
 SIGNS = "abcdefghijklmnopqrstuvwxyz .,\n"
 MOST_IN_GALLEY = 80
 
@@ -16,6 +18,7 @@ def is_text(value, least, most):
     return all([sign in SIGNS for sign in value])
 
 
-def is_galley(value):
-    """Whether it is a galley."""
-    return is_text(value, 0, MOST_IN_GALLEY)
+def check_galley(value):
+    """Refuse what is no galley."""
+    if not is_text(value, 0, MOST_IN_GALLEY):
+        raise BadGalley("a galley is a text of at most 80 signs")

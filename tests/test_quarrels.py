@@ -7,6 +7,7 @@ from galleymarks import quarrels as module
 from galleymarks.errors import BadMarks
 from galleymarks.marks import About, Carry, Mark, Put, Strike, mark_of
 from galleymarks.quarrels import quarrels
+from tests.helpers import every_mark
 
 LARGE = 10 ** 5000
 
@@ -115,17 +116,6 @@ class TestClauses(unittest.TestCase):
     def test_a_put_may_come_into_a_room(self):
         self.at_peace(About(2, 5, 8), Put(3, "a"), Put(4, "a"), Put(6, "a"), Put(7, "a"))
         self.at_peace(Carry(2, 6, 0), Put(2, "a"), Put(3, "a"), Put(5, "a"), Put(6, "a"))
-
-
-def every_mark(count):
-    """Each mark that fits a text of so many signs, puts with one text."""
-    gaps = range(count + 1)
-    found = [Put(gap, "a") for gap in gaps]
-    for begin, end in itertools.combinations(gaps, 2):
-        found.append(Strike(begin, end))
-        found.extend(About(begin, middle, end) for middle in range(begin + 1, end))
-        found.extend(Carry(begin, end, gap) for gap in gaps if gap < begin or gap > end)
-    return found
 
 
 def parts_of(told):
